@@ -1,0 +1,1 @@
+"""Figurebook: figures told by rules, listed, numbered, counted."""
