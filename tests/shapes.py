@@ -1,5 +1,7 @@
-"""What the tests share: rules as nested tuples, so that like rules are equal."""
+"""What the tests share: rules as nested tuples, so that like rules are equal; and books of rows of text."""
 
+from figurebook.books import Book
+from figurebook.reading import read_rule
 from figurebook.rules import Bag, Bead, By, Choice, Named, Nothing, Or, Ring, Row
 
 TWO_PARTS = (Or, By)
@@ -33,3 +35,12 @@ def rules_of(many, leaves):
             for other in rules_of(many - 1 - first, leaves):
                 found.extend(kind(one, other) for kind in TWO_PARTS)
     return found
+
+
+def pairs_of(*rows):
+    """A list of tuples (name, rule), of rows as "tree = bead red by bag of tree"."""
+    return [(name, read_rule(text)) for name, text in (row.split(" = ") for row in rows)]
+
+
+def book_of(*rows):
+    return Book(pairs_of(*rows))

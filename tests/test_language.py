@@ -1,6 +1,7 @@
 """The package's own files keep to a small part of Python: what of it can be seen from the files."""
 
 import ast
+import builtins
 import pathlib
 import re
 import unittest
@@ -115,10 +116,54 @@ class Forms(unittest.TestCase):
             given = given_names(tree)
             for word in given - TWO_UNDERSCORES:
                 self.assertFalse(word.startswith("_"), (path.name, word))
-                self.assertNotIn(word, PYTHONS_OWN, path.name)
             for node in ast.walk(tree):
                 if isinstance(node, ast.Name):
                     self.assertIn(node.id, given | PYTHONS_OWN, (path.name, node.lineno))
+
+    def test_no_name_of_pythons_own_given_anew(self):
+        for path in FILES:
+            tree = tree_of(path)
+            methods = [part for node in ast.walk(tree) if isinstance(node, ast.ClassDef) for part in node.body]
+            for node in ast.walk(tree):
+                if isinstance(node, (ast.FunctionDef, ast.ClassDef)) and node not in methods:
+                    self.assertNotIn(node.name, dir(builtins), path.name)
+                if isinstance(node, ast.arg):
+                    self.assertNotIn(node.arg, dir(builtins), path.name)
+                if isinstance(node, ast.Name) and isinstance(node.ctx, ast.Store):
+                    self.assertNotIn(node.id, dir(builtins), path.name)
+
+    def test_no_local_called_like_an_import_or_a_class(self):
+        for path in FILES:
+            tree = tree_of(path)
+            top = {alias.asname or alias.name for node in tree.body if isinstance(node, ast.ImportFrom)
+                   for alias in node.names}
+            top |= {node.name for node in tree.body if isinstance(node, ast.ClassDef)}
+            for node in ast.walk(tree):
+                if isinstance(node, (ast.FunctionDef, ast.Lambda)):
+                    given = {inner.id for inner in ast.walk(node)
+                             if isinstance(inner, ast.Name) and isinstance(inner.ctx, ast.Store)}
+                    given |= {inner.arg for inner in ast.walk(node) if isinstance(inner, ast.arg)}
+                    self.assertEqual(given & top, set(), (path.name, node.lineno))
+
+    def test_no_file_draws_from_one_that_draws_from_it(self):
+        drawn = {
+            f"figurebook.{path.stem}": {node.module for node in ast.walk(tree_of(path)) if isinstance(node, ast.ImportFrom)}
+            for path in FILES
+        }
+        left = dict(drawn)
+        while left:
+            free = [name for name, others in left.items() if not others & set(left)]
+            self.assertNotEqual(free, [], sorted(left))
+            for name in free:
+                del left[name]
+
+    def test_imports_come_from_the_file_that_defines_them(self):
+        for name, node in nodes(ast.ImportFrom):
+            tree = tree_of(PACKAGE.parent / (node.module.replace(".", "/") + ".py"))
+            defined = {part.name for part in tree.body if isinstance(part, (ast.FunctionDef, ast.ClassDef))}
+            defined |= {part.targets[0].id for part in tree.body if isinstance(part, ast.Assign)}
+            for alias in node.names:
+                self.assertIn(alias.name, defined, name)
 
     def test_methods_and_values(self):
         methods, values = own_methods(), own_values()
