@@ -22,19 +22,25 @@ def made_of(kind, parts):
 
 
 def folded(writing, deed):
-    """What deed(writing, told) tells, told being the list of what the deed told of the parts.
+    """What deed(writing, told) tells, told being the list of what the deed told of the parts."""
+    return folded_over(writing, parts_of, deed)
 
-    A loop, since writings may lie some hundred within one another.
+
+def folded_over(whole, parts, deed):
+    """The same of anything whose parts are told by parts(whole).
+
+    A loop, since figures may lie some hundred within one another.
     """
     order = []
-    waiting = [writing]
+    waiting = [whole]
     while waiting:
         one = waiting.pop()
-        order.append(one)
-        waiting.extend(parts_of(one))
+        inner = parts(one)
+        order.append((one, len(inner)))
+        waiting.extend(inner)
     told = []
-    for one in reversed(order):
-        first = len(told) - len(parts_of(one))
+    for one, many in reversed(order):
+        first = len(told) - many
         told[first:] = [deed(one, told[first:])]
     return told[0]
 
