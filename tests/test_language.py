@@ -184,6 +184,24 @@ class Forms(unittest.TestCase):
                     self.assertIsInstance(right, ast.Constant, (name, node.lineno))
                     self.assertIn(right.value, (None, True, False), (name, node.lineno))
 
+    def test_walked_at_once(self):
+        walking = ("list", "tuple", "dict", "sorted", "sum", "any", "all", "enumerate", "zip", "min", "max", "bytes")
+        for path in FILES:
+            tree = tree_of(path)
+            allowed = set()
+            for node in ast.walk(tree):
+                if isinstance(node, (ast.For, ast.comprehension)):
+                    allowed.add(node.iter)
+                if isinstance(node, ast.Call) and isinstance(node.func, ast.Name) and node.func.id in walking:
+                    allowed.update(node.args)
+                if isinstance(node, ast.Call) and isinstance(node.func, ast.Attribute) and node.func.attr == "join":
+                    allowed.update(node.args)
+            for node in ast.walk(tree):
+                if isinstance(node, ast.Call):
+                    word = node.func.id if isinstance(node.func, ast.Name) else getattr(node.func, "attr", None)
+                    if word in ("zip", "enumerate", "reversed", "range", "items", "keys", "values"):
+                        self.assertIn(node, allowed, (path.name, node.lineno))
+
     def test_classes(self):
         for name, node in nodes(ast.ClassDef):
             self.assertLessEqual(len(node.bases), 1, (name, node.name))
